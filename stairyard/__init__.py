@@ -1,0 +1,1 @@
+"""Stairyard: pieces in units that divide one another."""

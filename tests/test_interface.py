@@ -1,0 +1,34 @@
+"""Every listed function stands in its file, with its parameters: the headings of the interface."""
+
+import importlib
+import inspect
+import unittest
+
+TOLD = {
+    "units": ("need_units(value)", "need_unit(units, value)", "sizes(units)"),
+    "rows": (
+        "need_row(units, value)", "need_rows(units, value)", "total(units, row)", "side_by_side(units, rows)",
+        "stair_of(units, row)", "need_stair(units, value)", "row_of(units, stair)",
+        "is_within(units, order, stock)", "full_unit(units, order, stock)"),
+    "stairs": (
+        "need_numbers(units, value)", "up(units, numbers)", "down(units, numbers)", "lack(units, order, stock)",
+        "rest(units, stock, order)", "higher_of(units, one, other)", "lower_of(units, one, other)"),
+    "between": (
+        "stepped(units, row, steps)", "steps_apart(units, one, other)", "steps_between(units, one, other)"),
+}
+
+
+class Interface(unittest.TestCase):
+    def test_functions_are_defined_where_they_are_listed(self):
+        for name, told in TOLD.items():
+            module = importlib.import_module("stairyard." + name)
+            for text in told:
+                with self.subTest(function=text):
+                    function = getattr(module, text.partition("(")[0])
+                    self.assertTrue(inspect.isfunction(function))
+                    self.assertEqual(function.__module__, "stairyard." + name)
+                    self.assertEqual(function.__name__ + str(inspect.signature(function)), text)
+
+
+if __name__ == "__main__":
+    unittest.main()

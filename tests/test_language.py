@@ -1,0 +1,140 @@
+"""The files of the package keep to the main rules of LANGUAGE.md, as far as a look at the code can tell."""
+
+import ast
+import builtins
+import os
+import unittest
+
+HERE = os.path.dirname(os.path.abspath(__file__))
+PACKAGE = os.path.join(os.path.dirname(HERE), "stairyard")
+
+BUILTINS = set((
+    "len range enumerate zip min max sum abs sorted reversed int str bool bytes list tuple dict set frozenset "
+    "isinstance ord repr any all divmod ValueError map iter next").split())
+METHODS = set((
+    "append clear copy count endswith extend find get index insert isalnum isalpha isdigit islower isspace isupper "
+    "items join keys ljust lower lstrip partition pop remove replace reverse rfind rjust rpartition rsplit rstrip "
+    "setdefault split splitlines startswith strip update upper values zfill bit_length sort add discard").split())
+BEGINNINGS = ("__", "_wall", "_pe_", "_dcw_", "_enum_", "_cm_", "_twin_re_", "_lay_", "_law_", "_stub_", "_sre")
+BARRED = set((
+    "register mro elements open input law version_info with_traceback add_note compile dir eval exec exit gc globals "
+    "help id importlib license locals os quit super vars sys type print").split())
+NEVER = (
+    ast.AsyncFunctionDef, ast.AsyncFor, ast.AsyncWith, ast.Await, ast.Global, ast.Import, ast.Div, ast.MatMult,
+    ast.Try, ast.GeneratorExp, ast.Yield, ast.YieldFrom, ast.AnnAssign)
+CONSTANTS = ("None", "True", "False")
+
+
+def sources():
+    found = {}
+    for name in sorted(os.listdir(PACKAGE)):
+        if name.endswith(".py"):
+            with open(os.path.join(PACKAGE, name), encoding="utf-8") as file:
+                found[name] = file.read()
+    return found
+
+
+def imports_of(tree):
+    return [node for node in ast.walk(tree) if isinstance(node, ast.ImportFrom)]
+
+
+def bound_in(function):
+    """The names of parameters, variables and functions within a function."""
+    arguments = function.args
+    names = [one.arg for one in arguments.posonlyargs + arguments.args + arguments.kwonlyargs]
+    names += [node.id for node in ast.walk(function) if isinstance(node, ast.Name) and isinstance(node.ctx, ast.Store)]
+    return names
+
+
+class Language(unittest.TestCase):
+    def setUp(self):
+        self.sources = sources()
+        self.trees = {name: ast.parse(text) for name, text in self.sources.items()}
+
+    def nodes(self):
+        for name, tree in self.trees.items():
+            for node in ast.walk(tree):
+                yield f"{name}:{getattr(node, 'lineno', 0)}", node
+
+    def test_files(self):
+        others = [name for name in os.listdir(PACKAGE) if name not in self.sources and name != "__pycache__"]
+        self.assertEqual(others, [])
+        self.assertIn("__init__.py", self.sources)
+        for name, text in self.sources.items():
+            with self.subTest(name=name):
+                self.assertTrue(all(32 <= ord(sign) <= 126 or sign == "\n" for sign in text))
+                self.assertLessEqual(len(text.splitlines()), 399)
+                self.assertLessEqual(max(map(len, text.splitlines())), 120)
+                self.assertEqual(name, name.lower())
+                self.assertNotIn(name[:-3], dir(builtins))
+
+    def test_functions_are_small(self):
+        for place, node in self.nodes():
+            if isinstance(node, ast.FunctionDef):
+                self.assertLessEqual(node.end_lineno - node.lineno + 1, 40, place)
+                self.assertEqual(node.decorator_list, [], place)
+                self.assertIsNone(node.returns, place)
+
+    def test_module_level(self):
+        for name, tree in self.trees.items():
+            self.assertIsNotNone(ast.get_docstring(tree), name)
+            bound = []
+            for node in tree.body[1:]:
+                self.assertIsInstance(node, (ast.ImportFrom, ast.FunctionDef, ast.ClassDef), f"{name}:{node.lineno}")
+                bound += [one.name for one in node.names] if isinstance(node, ast.ImportFrom) else [node.name]
+            self.assertEqual(len(bound), len(set(bound)), name)
+
+    def test_imports_name_the_defining_file_and_make_no_ring(self):
+        behind = {}
+        for name, tree in self.trees.items():
+            behind[name] = set()
+            for node in imports_of(tree):
+                self.assertEqual((node.level, node.module.partition(".")[0]), (0, "stairyard"), name)
+                file = node.module.partition(".")[2] + ".py"
+                behind[name].add(file)
+                defined = [one.name for one in self.trees[file].body if isinstance(one, (ast.FunctionDef, ast.ClassDef))]
+                for one in node.names:
+                    self.assertIn(one.name, defined, name)
+                    self.assertIsNone(one.asname, name)
+                    used = [n.id for n in ast.walk(tree) if isinstance(n, ast.Name)]
+                    self.assertIn(one.name, used, name)
+        while behind:
+            free = [name for name, files in behind.items() if not files & set(behind)]
+            self.assertTrue(free, behind)
+            for name in free:
+                del behind[name]
+
+    def test_names(self):
+        for name, tree in self.trees.items():
+            imported = {one.name for node in imports_of(tree) for one in node.names}
+            classes = {node.name for node in ast.walk(tree) if isinstance(node, ast.ClassDef)}
+            for node in ast.walk(tree):
+                if isinstance(node, ast.FunctionDef):
+                    for bound in (node.name, *bound_in(node)):
+                        with self.subTest(name=name, bound=bound):
+                            self.assertNotIn(bound, dir(builtins))
+                            self.assertNotIn(bound, BARRED)
+                            self.assertTrue(bound == "__init__" or not bound.startswith(BEGINNINGS))
+                    self.assertEqual(set(bound_in(node)) & (imported | classes), set(), f"{name}:{node.lineno}")
+
+    def test_builtins_methods_and_signs(self):
+        for place, node in self.nodes():
+            with self.subTest(place=place):
+                self.assertNotIsInstance(node, NEVER)
+                if isinstance(node, ast.Name) and node.id in dir(builtins):
+                    self.assertIn(node.id, BUILTINS)
+                if isinstance(node, ast.Call) and isinstance(node.func, ast.Attribute):
+                    init = node.func.attr == "__init__" and node.func.value.id == "YardError"
+                    self.assertTrue(init or node.func.attr in METHODS)
+                if isinstance(node, ast.Constant):
+                    self.assertNotIsInstance(node.value, (float, complex, bytes))
+                    self.assertNotIn("%", str(node.value))
+                if isinstance(node, ast.Compare) and any(isinstance(one, (ast.Is, ast.IsNot)) for one in node.ops):
+                    self.assertTrue(all(repr(getattr(one, "value", 0)) in CONSTANTS for one in node.comparators))
+                if isinstance(node, ast.BinOp) and isinstance(node.op, ast.Pow):
+                    self.assertIsInstance(node.right, ast.Constant)
+                    self.assertLessEqual(node.right.value, 64)
+
+
+if __name__ == "__main__":
+    unittest.main()
