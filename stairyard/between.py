@@ -68,8 +68,9 @@ def _least_nearer(units, row, gaps):
 
     A gap is how many cuts more than joins are to come at its unit.
     """
-    for unit in range(len(units)):
-        if gaps[unit] > 0 and row[unit] > 0:
-            return ("cut", unit)
-    ready = [unit for unit in range(len(units)) if gaps[unit] < 0 and row[unit + 1] >= units[unit]]
-    return ("join", min(ready))
+    cuts = [unit for unit, gap in enumerate(gaps) if gap > 0]
+    # The first of these can always be done: above it no stair is too high, so there is a piece of its unit.
+    if cuts:
+        return ("cut", cuts[0])
+    joins = [unit for unit in range(len(units)) if gaps[unit] < 0 and row[unit + 1] >= units[unit]]
+    return ("join", joins[0])

@@ -15,6 +15,20 @@ TOLD = {
         "rest(units, stock, order)", "higher_of(units, one, other)", "lower_of(units, one, other)"),
     "between": (
         "stepped(units, row, steps)", "steps_apart(units, one, other)", "steps_between(units, one, other)"),
+    "pieces": (
+        "laying(units, stock, order)", "is_laying(units, stock, order, value)", "packed(units, blocks, order)",
+        "is_packed(units, blocks, order, value)", "greatest_lot(units, stock, order)"),
+    "cutting": (
+        "cut_once(units, row, unit)", "cut_by(units, row, cuts)", "fewest_cuts(units, stock, order)",
+        "cut_plan(units, stock, order)", "is_cut_plan(units, stock, order, value)"),
+    "orders": ("least_for(units, rows)", "greatest_common(units, rows)"),
+    "formulas": (
+        "need_formula(units, value)", "formula_stocks(units, formula)", "is_enough_for(units, formula, stock)",
+        "formula_apart(units, first, second)"),
+    "counting": ("count_between(units, low, high)", "rows_between(units, low, high)", "row_steps(units, low, high)"),
+    "asking": (
+        "served_in_turn(units, stock, asks)", "lost_row(units, one, other)", "opened(units, row, unit, to, many)",
+        "taken_back(units, stock, order)"),
 }
 
 

@@ -92,7 +92,8 @@ class Language(unittest.TestCase):
                 self.assertEqual((node.level, node.module.partition(".")[0]), (0, "stairyard"), name)
                 file = node.module.partition(".")[2] + ".py"
                 behind[name].add(file)
-                defined = [one.name for one in self.trees[file].body if isinstance(one, (ast.FunctionDef, ast.ClassDef))]
+                body = self.trees[file].body
+                defined = [one.name for one in body if isinstance(one, (ast.FunctionDef, ast.ClassDef))]
                 for one in node.names:
                     self.assertIn(one.name, defined, name)
                     self.assertIsNone(one.asname, name)

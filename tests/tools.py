@@ -118,7 +118,20 @@ def swapped(values, at, value):
     return values[:at] + (value,) + values[at + 1:]
 
 
+
+class Alike:
+    """A value that says of itself that it equals each other one."""
+
+    def __eq__(self, other):
+        return True
+
+    def __hash__(self):
+        return 0
+
+
 STRAY = (None, True, False, 0, 5, "row", b"row", [], {}, set(), object(), lambda: 0)
+# Values of every kind for what judges papers: none of them is a good paper of an order that asks something.
+PAPERS = (*STRAY, (), (0,), (None,), (True,), ((),), ((0,),), ("cut",), -1, 10 ** 70, ((),) * 4, (None,) * 4, range(3))
 NO_NUMBERS = (True, False, None, "0", (0,), [0], b"0", {})
 
 
@@ -189,7 +202,7 @@ def wrong_steps(units):
     yield (None,) * 61, errors.TooGreat, {"most": 60}
     wrong = [*STRAY, (), ("cut",), ("cut", 0, 0), ["cut", 0], ("cuts", 0), ("Cut", 0), (b"cut", 0), ("", 0), (None, 0)]
     wrong += [("join", None), ("cut", True), ("cut", False), ("join", -1), ("cut", len(units)), ("join", len(units))]
-    wrong += [("cut", "0"), ("cut", (0,)), (0, "cut"), (("cut", 0),)]
+    wrong += [("cut", "0"), ("cut", (0,)), (0, "cut"), (("cut", 0),), (Alike(), 0), ("cut", Alike()), Alike()]
     for step in wrong:
         yield (step,), errors.BadSteps, {"place": (0,)}
         if units:
@@ -230,6 +243,7 @@ def wrong_formula(units):
     forms = [*STRAY, (), ("row",), (*row, 0), list(row), ("Row", row[1]), (b"row", row[1]), ("any",), ("any", [row])]
     forms += [("any", row[1], ()), ("any", (row,) * 5), ("one", (None,) * 5), ("together", None), ("all", (row,))]
     forms += [("row", wrong) for wrong, _, _ in wrong_row(units)] + [(("row",), row[1]), (None, ()), (True, ())]
+    forms += [Alike(), (Alike(), row[1]), (Alike(), ()), ("row", Alike()), ("any", Alike())]
     for value in forms:
         yield value, errors.BadFormula, {"path": ()}
         yield ("any", (row, value, None)), errors.BadFormula, {"path": (1, 1)}
