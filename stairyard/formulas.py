@@ -1,74 +1,49 @@
 """Formulas: what a stock must be enough for, and the least rows that are."""
 
-from stairyard.errors import BadFormula, NoRow, TooGreat
-from stairyard.plain import greater_of, is_row, least_kept, nowhere_greater, plus, row_made, stair_made, zeros
-from stairyard.rows import need_row
+from stairyard.errors import BadFormula
+from stairyard.plain import any_within, begins_with, greater_of, is_row, least_apart, least_kept, plus, row_made
+from stairyard.plain import rows_made, stair_made, walk_parts, zeros
+from stairyard.rows import stair_of
 from stairyard.units import need_units
 
 
 def need_formula(units, value):
     """Return a formula, at most 6 deep and with at most 20 formulas in it, itself too."""
     need_units(units)
-    _walk(units, value, (), 0)
+    walk_parts(value, 6, 20, lambda path, part: _parts(units, path, part))
     return value
 
 
 def formula_stocks(units, formula):
     """Return the least rows of the stocks that are enough for the formula."""
     need_formula(units, formula)
-    return _least_rows(units, formula)
+    return rows_made(units, _least_stairs(units, formula))
 
 
 def is_enough_for(units, formula, stock):
     """Return whether the stock is enough for the formula."""
     need_formula(units, formula)
-    need_row(units, stock)
-    return _is_enough(units, _least_rows(units, formula), stock)
+    stair = stair_of(units, stock)
+    return any_within(_least_stairs(units, formula), stair)
 
 
 def formula_apart(units, first, second):
     """Return the least one of the least rows of both that is enough for just one of them."""
     need_formula(units, first)
     need_formula(units, second)
-    of_first = _least_rows(units, first)
-    of_second = _least_rows(units, second)
-    apart = [row for row in of_first if not _is_enough(units, of_second, row)]
-    apart.extend([row for row in of_second if not _is_enough(units, of_first, row)])
-    if not apart:
-        raise NoRow()
-    return min(apart)
+    return row_made(units, least_apart(_least_stairs(units, first), _least_stairs(units, second)))
 
 
-def _walk(units, value, path, met):
-    """Check a value met behind so many others; return how many are met with those within it."""
-    # Each step down puts two indexes into the path.
-    if len(path) // 2 >= 6:
-        raise TooGreat(6)
-    if met >= 20:
-        raise TooGreat(20)
-    if not _has_form(units, value):
+def _parts(units, path, value):
+    """Return the formulas directly within a formula and their indexes."""
+    if begins_with(value, ("row",), 2) and is_row(units, value[1]):
+        return []
+    if not begins_with(value, ("together", "any", "one"), 2):
         raise BadFormula(path)
-    met = met + 1
-    if value[0] != "row":
-        for index, part in enumerate(value[1]):
-            met = _walk(units, part, path + (1, index), met)
-    return met
-
-
-def _has_form(units, value):
-    """Return whether a value has the form of a formula, whatever the things within it are."""
-    if not isinstance(value, tuple) or len(value) != 2:
-        return False
-    word, inner = value
-    if not isinstance(word, str):
-        return False
-    if word == "row":
-        return is_row(units, inner)
-    return word in ("together", "any", "one") and isinstance(inner, tuple) and len(inner) <= 4
-
-
-def _least_rows(units, formula):
-    return tuple([row_made(units, stair) for stair in _least_stairs(units, formula)])
+    inner = value[1]
+    if not isinstance(inner, tuple) or len(inner) > 4:
+        raise BadFormula(path)
+    return [((1, index), part) for index, part in enumerate(inner)]
 
 
 def _least_stairs(units, formula):
@@ -92,8 +67,3 @@ def _both(word, one, other):
     if word == "any":
         return [greater_of(first, second) for first in one for second in other]
     return one + other
-
-
-def _is_enough(units, least_rows, stock):
-    stair = stair_made(units, stock)
-    return any([nowhere_greater(stair_made(units, row), stair) for row in least_rows])

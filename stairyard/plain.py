@@ -4,12 +4,27 @@ Numbers within the work may be greater than those that callers may pass, so noth
 unless its name says so.
 """
 
-from stairyard.errors import TooGreat, Unlike
+from stairyard.errors import NoRow, TooGreat, Unlike
+
+
+def is_from(value, least):
+    """Return whether a value is an integer, not True or False, from `least` on."""
+    return isinstance(value, int) and not isinstance(value, bool) and value >= least
 
 
 def is_whole(value, least, most):
     """Return whether a value is an integer, not True or False, from `least` to `most`."""
-    return isinstance(value, int) and not isinstance(value, bool) and least <= value <= most
+    return is_from(value, least) and value <= most
+
+
+def is_tuple_of(value, many):
+    """Return whether a value is a tuple of so many things."""
+    return isinstance(value, tuple) and len(value) == many
+
+
+def begins_with(value, words, many):
+    """Return whether a value is a tuple of so many things, the first one of which is one of the words."""
+    return is_tuple_of(value, many) and isinstance(value[0], str) and value[0] in words
 
 
 def is_unit(units, value):
@@ -24,14 +39,17 @@ def is_cut_unit(units, value):
 
 def is_numbers(units, value, least, most):
     """Return whether a value is a tuple with an integer from `least` to `most` for each unit."""
-    if not isinstance(value, tuple) or len(value) != len(units) + 1:
-        return False
-    return all([is_whole(number, least, most) for number in value])
+    return is_tuple_of(value, len(units) + 1) and all([is_whole(number, least, most) for number in value])
 
 
 def is_row(units, value):
     """Return whether a value is a row."""
     return is_numbers(units, value, 0, 10 ** 60)
+
+
+def is_great_row(units, value):
+    """Return whether a value is a row, but that its numbers may be however great."""
+    return is_tuple_of(value, len(units) + 1) and all([is_from(number, 0) for number in value])
 
 
 def zeros(units):
@@ -134,13 +152,67 @@ def cut_made(units, row, unit, many):
     return tuple(changed)
 
 
+def behind_deed(units, left, deed):
+    """Return the stair of the rest of what was left, a stair, behind an ask, a bring or a pass.
+
+    None stands for an ask that is not served.
+    """
+    if deed[0] == "pass":
+        return left
+    stair = stair_made(units, deed[1])
+    if deed[0] == "bring":
+        return plus(left, stair)
+    over = minus(left, stair)
+    return down_made(units, over) if min(over) >= 0 else None
+
+
+def any_within(stairs, stair):
+    """Return whether one of some stairs lies within a stair."""
+    return any([nowhere_greater(least, stair) for least in stairs])
+
+
 def least_kept(stairs):
     """Return the ascending list of the least ones of some stairs; TooGreat for more than 40."""
     kept = []
     # A stair within another one stands ahead of it in this order, so what is kept once stays.
     for stair in sorted(stairs):
-        if not any([nowhere_greater(least, stair) for least in kept]):
+        if not any_within(kept, stair):
             kept.append(stair)
             if len(kept) > 40:
                 raise TooGreat(40)
     return kept
+
+
+def least_apart(of_first, of_second):
+    """Return the least one of both lists of least stairs that is enough for just one of them; NoRow for none."""
+    apart = [stair for stair in of_first if not any_within(of_second, stair)]
+    apart.extend([stair for stair in of_second if not any_within(of_first, stair)])
+    if not apart:
+        raise NoRow()
+    return min(apart)
+
+
+def rows_made(units, stairs):
+    """Return the tuple of the rows that have these stairs; both ascend alike."""
+    return tuple([row_made(units, stair) for stair in stairs])
+
+
+def walk_parts(value, deep, many, parts_of):
+    """Walk through a value; return the pairs of a path and of what is met there, a whole ahead of its parts.
+
+    parts_of(path, part) returns the pairs of the indexes that lead to a part's own parts and of these parts,
+    or raises the error of its kind if the part has no form of this kind.
+    """
+    met = []
+    waiting = [((), value, 1)]
+    while waiting:
+        path, part, depth = waiting.pop()
+        if depth > deep:
+            raise TooGreat(deep)
+        if len(met) == many:
+            raise TooGreat(many)
+        inside = parts_of(path, part)
+        met.append((path, part))
+        # The last one in is the first one out: so the first part comes next.
+        waiting.extend([(path + indexes, inner, depth + 1) for indexes, inner in reversed(inside)])
+    return met

@@ -29,6 +29,20 @@ TOLD = {
     "asking": (
         "served_in_turn(units, stock, asks)", "lost_row(units, one, other)", "opened(units, row, unit, to, many)",
         "taken_back(units, stock, order)"),
+    "rules": (
+        "need_rule(units, value)", "best_rule(units)", "taken_by(units, rule, stock, unit)",
+        "ruled(units, rule, stock, asks)", "rule_flaw(units, rule)", "is_rule_flaw(units, rule, value)"),
+    "yards": (
+        "need_tree(units, value)", "yard_paths(units, tree)", "needs(units, tree)", "is_served(units, tree)",
+        "is_sending(units, tree, value)", "lack_paper(units, tree)", "is_lack_paper(units, tree, value)"),
+    "spares": ("allowed(units, tree)", "spare(units, tree, path)", "least_added(units, tree, path)"),
+    "reshaped": (
+        "asked_more(units, tree, path, row)", "stocked(units, tree, path, row)", "moved(units, tree, path, row)",
+        "closed(units, tree, path)", "asks_apart(units, one, other)"),
+    "plans": (
+        "need_plan(units, value)", "lives(units, plan, stock)", "plan_stocks(units, plan)",
+        "plan_lacks(units, plan, stock)", "still_asked(units, plan, stock)", "plans_apart(units, first, second)",
+        "put_behind(units, first, second)"),
 }
 
 

@@ -118,7 +118,6 @@ def swapped(values, at, value):
     return values[:at] + (value,) + values[at + 1:]
 
 
-
 class Alike:
     """A value that says of itself that it equals each other one."""
 
@@ -302,6 +301,36 @@ class YardCase(unittest.TestCase):
         if isinstance(value, tuple):
             for part in value:
                 self.made_of_tuples(part)
+
+
+    def judges(self, judge, good, *args):
+        """Assert that a paper is good, and that it is not once a part of it is of no kind; `args` come ahead."""
+        self.assertIs(judge(*args, good), True)
+        for value in spoilt(good):
+            with self.subTest(judge=judge.__name__, value=value):
+                self.assertIs(judge(*args, value), False)
+        for value in PAPERS:
+            self.assertIn(judge(*args, value), (True, False))
+
+
+def spoilt(value):
+    """A value with one part of it, itself too, made to something that just looks like it, or of another kind."""
+    yield Alike()
+    yield b"" if value == "" else {}
+    if isinstance(value, tuple):
+        yield list(value)
+        yield value + (None,)
+        for at, part in enumerate(value):
+            for other in spoilt(part):
+                yield swapped(value, at, other)
+    elif isinstance(value, str):
+        yield value.encode()
+        yield value.title()
+    elif isinstance(value, int):
+        yield str(value)
+        yield (value,)
+        if value in (0, 1):
+            yield bool(value)
 
 
 def product_of(*ranges):
