@@ -43,6 +43,25 @@ TOLD = {
         "need_plan(units, value)", "lives(units, plan, stock)", "plan_stocks(units, plan)",
         "plan_lacks(units, plan, stock)", "still_asked(units, plan, stock)", "plans_apart(units, first, second)",
         "put_behind(units, first, second)"),
+    "plays": (
+        "played(units, plan, stock, choices)", "strategy(units, plan, stock)",
+        "is_strategy(units, plan, stock, value)", "play_against(units, plan, stock)",
+        "is_play_against(units, plan, stock, value)"),
+    "yardplans": (
+        "need_yard_plan(units, yards, value)", "yard_stocks(units, yards, plan)",
+        "yard_lives(units, yards, plan, stocks)", "root_stocks(units, yards, plan, stocks)",
+        "yard_strategy(units, yards, plan, stocks)", "is_yard_strategy(units, yards, plan, stocks, value)"),
+    "worlds": (
+        "need_world(units, value)", "world_needs(units, world)", "outlives(units, world, stock)",
+        "is_table(units, world, value)", "left_behind(units, world, stock, walk)"),
+    "rings": (
+        "endless_unit(units, world)", "ring_of(units, world)", "is_ring(units, world, value)",
+        "failing_walk(units, world, stock)", "is_failing_walk(units, world, stock, value)"),
+    "lasting": (
+        "needs_within(units, world, steps)", "how_long(units, world, stock)", "as_plan(units, world, steps)"),
+    "more": (
+        "with_deed(units, world, step, deed)", "least_more(units, world, step)", "most_more(units, world, step)",
+        "beside(units, one, other)"),
 }
 
 
