@@ -18,8 +18,7 @@ def needs_within(units, world, steps):
         if steps % 2 == 1:
             told = _told_ahead(table, told)
         steps = steps // 2
-        if steps > 0:
-            table = _behind_each_other(table)
+        table = _behind_each_other(table)
     return tuple([row_made(units, _stair_at(units, told, place)) for place in range(world[0])])
 
 

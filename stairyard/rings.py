@@ -60,12 +60,13 @@ def is_failing_walk(units, world, stock, value):
     place = 0
     sums = []
     for level, thing in zip(reversed(range(unit + 1)), things):
-        place, together = _gone_through(world, counts_at(units, world, level), place, thing)
-        if place is None:
+        found = _gone_through(world, counts_at(units, world, level), place, thing)
+        if found is None:
             return False
+        place, together = found
         sums.append(together)
-    counted = 0
-    for ratio, together in zip((1, *units), reversed(sums)):
+    counted = sums[-1]
+    for ratio, together in zip(units, sums[-2::-1]):
         counted = together + ratio * counted
     return counted > stair_made(units, stock)[unit]
 
@@ -116,37 +117,41 @@ def _by_rounds(units, world, rounds, unit):
     walks = [[] for _ in range(unit + 1)]
     place = 0
     level = unit
-    for told, ahead in zip(reversed(rounds), reversed(rounds[:-1])):
+    for told, behind in zip(rounds[::-1], rounds[-2::-1]):
         if told[place][level] == 0:
             break
-        index, level = _step_that_tells(units, world, told[place][level] * sizes(units)[level], place, level, ahead)
+        index, level = _step_that_tells(units, world, place, level, told[place][level], behind)
         place = world[1][index][2]
         walks[unit - level].append(index)
     return walks
 
 
-def _step_that_tells(units, world, made, place, level, ahead):
-    """Return a step from a place, and a unit at most `level`, with which what is needed behind it makes so much."""
+def _step_that_tells(units, world, place, level, need, behind):
+    """Return a step from a place and a unit, `level` or one ahead of it, at which its count makes the need at `level`.
+
+    `behind` are the stairs that are needed behind the step.
+    """
+    size = sizes(units)
+    found = []
     for unit in range(level + 1):
         counts = counts_at(units, world, unit)
-        for index, (source, _, to) in enumerate(world[1]):
-            if source == place and (counts[index] + ahead[to][unit]) * sizes(units)[unit] == made:
-                return (index, unit)
-    return None
+        found.extend([(index, unit) for index, (source, _, to) in enumerate(world[1])
+                      if source == place and (counts[index] + behind[to][unit]) * size[unit] == need * size[level]])
+    return found[0]
 
 
 def _gone_through(world, counts, place, value):
-    """Return the place to which a thing of a failing walk leads and its sum; the place is None for no such thing."""
+    """Return the place to which a thing of a failing walk leads from a place, and its sum; None for no such thing."""
     if not isinstance(value, tuple):
-        return (None, 0)
+        return None
     together = 0
     for pair in value:
         if not is_tuple_of(pair, 2) or pair[0] == () or not is_from(pair[1], 1):
-            return (None, 0)
+            return None
         steps, times = pair
         to = _place_behind(world, place, steps)
         if to is None or times > 1 and to != place:
-            return (None, 0)
+            return None
         together = together + times * _sum_of(counts, steps)
         place = to
     return (place, together)

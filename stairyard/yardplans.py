@@ -89,9 +89,10 @@ def _parts(units, yards, path, value):
         return []
     if begins_with(value, ("either", "ours"), 3):
         return [((1,), value[1]), ((2,), value[2])]
-    if begins_with(value, ("ask", "bring"), 4) and is_whole(value[1], 0, len(yards)):
-        if is_unit(units, value[2]) if value[0] == "ask" else is_row(units, value[2]):
-            return [((3,), value[3])]
+    asks = begins_with(value, ("ask",), 4) and is_unit(units, value[2])
+    brings = begins_with(value, ("bring",), 4) and is_row(units, value[2])
+    if (asks or brings) and is_whole(value[1], 0, len(yards)):
+        return [((3,), value[3])]
     raise BadPlan(path)
 
 

@@ -153,7 +153,7 @@ def is_plain_failing(units, world, stock, value):
                 if not 0 <= index < len(world[1]) or world[1][index][0] != place:
                     return False
                 place = world[1][index][2]
-            if not steps or times != 1 and place != start:
+            if not steps or times < 1 or times > 1 and place != start:
                 return False
             sums[-1] += times * sum_of(units, world, steps, level)
     for level in range(unit + 1):

@@ -221,6 +221,21 @@ class AsPlan(YardCase):
                 self.assertEqual(size_and_depth(plain_plan(fan(on, over, passes), 0, 2))[0], parts)
                 self.raises(TooGreat, {"most": 60}, as_plan, (), fan(on, over, passes), 2)
 
+    def test_choices_make_plans_deeper(self):
+        # From place 0 so many ways: passes to place 1, where all ends, and at last an ask that leads back.
+        def ways(many):
+            return (2, ((0, PASS, 1),) * (many - 1) + ((0, ("ask", (0, 1)), 0),))
+        self.assertEqual(size_and_depth(as_plan((2,), ways(7), 2)), (27, 15))
+        self.assertEqual(size_and_depth(as_plan((2,), ways(14), 1)), (28, 15))
+        self.assertEqual(size_and_depth(plain_plan(ways(8), 0, 2)), (31, 17))
+        self.raises(TooGreat, {"most": 16}, as_plan, (2,), ways(8), 2)
+        # With an ask ahead of all this it is sixteen deep, with two of them seventeen.
+        one = (4, ((0, ("ask", (0, 1)), 2),) + ((2, PASS, 1),) * 6 + ((2, ("ask", (0, 1)), 2),))
+        self.assertEqual(size_and_depth(as_plan((2,), one, 3)), (28, 16))
+        two = (4, ((0, ("ask", (0, 1)), 3), (3, ("ask", (0, 1)), 2)) + one[1][1:])
+        self.assertEqual(size_and_depth(plain_plan(two, 0, 4)), (29, 17))
+        self.raises(TooGreat, {"most": 16}, as_plan, (2,), two, 4)
+
     def test_numbers_of_parts(self):
         # N passes from a place to itself: the parts are doubled by each step, and so on.
         two = (1, ((0, PASS, 0), (0, PASS, 0)))

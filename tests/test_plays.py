@@ -237,6 +237,20 @@ class PlaysAgainst(YardCase):
         self.assertIs(is_play_against((2,), plan, (0, 2), ("on", ("on", ("over", (1, 0, 0))))), False)
         self.assertIs(is_play_against((2,), plan, (0, 1), ("over", (1,))), True)
 
+    def test_what_is_lacking_at_a_lesser_unit_counts_at_each_greater_one(self):
+        # The small piece takes the large one; a middle piece does not bring it back.
+        plan = ("ask", (0, 0, 1), ("bring", (0, 1, 0), ("ask", (1, 0, 0), END)))
+        play = play_against((2, 3), plan, (1, 0, 0))
+        self.assertTrue(is_plain_against((2, 3), plan, (1, 0, 0), play))
+        self.assertEqual(play, ("on", ("on", ("over", (2, 0, 0)))))
+
+    def test_only_an_ask_is_over(self):
+        plan = ("ask", (0, 2), ("bring", (0, 1), END))
+        for told in ((1, 1), (1, 0), (0, 0), (1,)):
+            self.assertIs(is_play_against((2,), plan, (0, 0), ("on", ("over", told))), False)
+        self.assertIs(is_play_against((2,), plan, (0, 0), ("over", (1,))), True)
+        self.assertIs(is_play_against((2,), plan, (0, 0), ("on", ("on", ("over", (1, 1))))), False)
+
     def test_choices(self):
         either = ("either", ("ask", (0, 1), END), ("ask", (1, 0), END))
         self.assertIs(is_play_against((2,), either, (0, 1), ("second", ("over", (0,)))), True)

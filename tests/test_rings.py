@@ -200,6 +200,9 @@ class FailingWalks(YardCase):
         world = (2, ((0, ("ask", (MOST, MOST)), 1), (1, ("ask", (0, 1)), 1)))
         told = failing_walk((10,), world, (0, 0))
         self.assertTrue(is_plain_failing((10,), world, (0, 0), told))
+        self.assertIs(is_failing_walk((10,), world, (0, 0), told), True)
+        for times, value in ((1, True), (2, True), (0, False), (-1, False)):
+            self.assertIs(is_failing_walk((10,), world, (0, 0), (1, ((((0,), 1), ((1,), times)), ()))), value)
 
     def test_sums_unit_by_unit(self):
         world = line_world(3, [("ask", (0, 1)), ("ask", (1, 0))])

@@ -5,6 +5,7 @@ import random
 import unittest
 
 from stairyard.errors import BadRow, BadSteps, BadWorld, NoRow, TooGreat
+from stairyard.lasting import needs_within
 from stairyard.worlds import is_table, left_behind, need_world, outlives, world_needs
 from tests.runs import (
     PASS, all_left, has_need, lasting_rows, needs_by_walks, serves_first, steps_from, walks_from, worlds_for)
@@ -155,6 +156,22 @@ class Needs(YardCase):
         self.assertIs(outlives((10,), circle_of([("ask", (MOST, 0)), ("bring", (MOST, 0))]), (MOST, 0)), True)
         self.assertIs(outlives((10,), circle_of([("ask", (MOST, 0)), ("bring", (MOST, 0))]), (MOST - 1, MOST)), False)
         self.assertIs(outlives((10,), circle_of([("ask", (MOST, 0)), ("bring", (MOST - 1, 9))]), (MOST, MOST)), False)
+
+    def test_needs_that_take_all_steps(self):
+        # They come of walks through all places at each unit: of no fewer steps.
+        ask, bring = "ask", "bring"
+        for units, steps in (
+                ((2,), ((0, (ask, (2, 1)), 2), (2, (bring, (2, 1)), 0), (0, (ask, (0, 4)), 1), (1, (bring, (1, 2)), 0))),
+                ((2,), ((0, (bring, (2, 0)), 3), (3, (ask, (0, 3)), 1), (1, (bring, (2, 1)), 2),
+                        (1, (bring, (1, 3)), 3), (3, (bring, (0, 4)), 2), (2, (ask, (2, 0)), 0))),
+                ((2, 2), ((0, (bring, (4, 0, 3)), 1), (1, (ask, (1, 3, 2)), 2), (2, (bring, (1, 4, 0)), 1),
+                          (1, (ask, (4, 0, 3)), 0)))):
+            world = (1 + max(source for source, _, _ in steps), steps)
+            enough = (len(units) + 1) * (world[0] - 1)
+            need = needs_by_walks(units, world)
+            self.assertEqual(world_needs(units, world), need)
+            self.assertNotEqual(needs_within(units, world, enough - 1), need)
+            self.assertEqual(needs_within(units, world, enough), need)
 
     def test_all_units_in_turn(self):
         # At each unit the walk goes further, as the need behind it is greater at the units ahead.
