@@ -4,7 +4,7 @@ Numbers within the work may be greater than those that callers may pass, so noth
 unless its name says so.
 """
 
-from stairyard.errors import NoRow, TooGreat, Unlike
+from stairyard.errors import NoRow, TooGreat, Unlike, YardError
 
 
 def is_from(value, least):
@@ -40,6 +40,11 @@ def is_cut_unit(units, value):
 def is_numbers(units, value, least, most):
     """Return whether a value is a tuple with an integer from `least` to `most` for each unit."""
     return is_tuple_of(value, len(units) + 1) and all([is_whole(number, least, most) for number in value])
+
+
+def is_wholes(value, many, least, most):
+    """Return whether a value is a tuple of at most so many integers from `least` to `most`."""
+    return isinstance(value, tuple) and len(value) <= many and all([is_whole(part, least, most) for part in value])
 
 
 def is_row(units, value):
@@ -108,6 +113,11 @@ def need_served(order_stair, stock_stair):
     unit = first_greater(order_stair, stock_stair)
     if unit is not None:
         raise Unlike(unit)
+
+
+def need_fits(units, row):
+    """Raise Unlike with the least unit at which the stair of one piece of the unit 0 is too low for a row's."""
+    need_served(stair_made(units, row), stair_made(units, alone(units, 0, 1)))
 
 
 def stair_made(units, row):
@@ -216,3 +226,12 @@ def walk_parts(value, deep, many, parts_of):
         # The last one in is the first one out: so the first part comes next.
         waiting.extend([(path + indexes, inner, depth + 1) for indexes, inner in reversed(inside)])
     return met
+
+
+def suits(need, units, value):
+    """Return whether need(units, value) takes a value, UNITS being right, for one of its kind."""
+    try:
+        need(units, value)
+    except YardError:
+        return False
+    return True

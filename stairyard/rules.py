@@ -1,7 +1,7 @@
 """Rules, which say what is taken and cut for a piece without looking ahead, and what is lost by them."""
 
 from stairyard.errors import BadRule, NoRow, TooGreat
-from stairyard.plain import alone, is_row, is_tuple_of, is_whole, nowhere_greater, plus, stair_made
+from stairyard.plain import alone, is_row, is_tuple_of, is_whole, minus, nowhere_greater, plus, stair_made
 from stairyard.rows import need_row, need_rows
 from stairyard.units import need_unit, need_units, sizes
 
@@ -90,14 +90,48 @@ def behind_piece(units, rule, row, unit):
     return None
 
 
-def behind_order(units, rule, row, order):
-    """Return what is left of a row behind an order that the rule takes piece by piece, None if a piece is lacking."""
+def rule_ways(units, rule):
+    """Return, for each unit, the ways in which the rule takes its pieces: (TAKEN, MANY, WHOLE, ONE) for each pair.
+
+    WHOLE is what comes beside a row as a piece of the unit TAKEN is used up, where the rule prefers all that is cut
+    out of it to a further one, and MANY how many pieces are taken by this; ONE is what the first of them changes.
+    """
+    found = []
+    for unit, pairs in enumerate(rule):
+        ways = []
+        for taken, _ in pairs:
+            piece = alone(units, taken, 1)
+            one = minus(behind_piece(units, rule, piece, unit), piece)
+            many, whole = _used_up(ways, 1, one)
+            ways.append((taken, many, whole, one))
+        found.append(ways)
+    return found
+
+
+def behind_order(ways, row, order):
+    """Return what is left of a row behind an order that is taken piece by piece, None if a piece is lacking."""
     for unit, many in enumerate(order):
-        for _ in range(many):
-            row = behind_piece(units, rule, row, unit)
-            if row is None:
+        while many > 0:
+            there = [way for way in ways[unit] if row[way[0]] > 0]
+            if not there:
                 return None
+            taken, at_once, whole, one = there[0]
+            times = min(row[taken], many // at_once)
+            row = plus(row, [times * number for number in whole]) if times else plus(row, one)
+            many = many - (times * at_once if times else 1)
     return row
+
+
+def _used_up(ways, many, left):
+    """Return how many pieces are taken, and what changes, as the ways ahead use up what is left of an opened piece."""
+    open_ways = [way for way in ways if left[way[0]] > 0]
+    while open_ways:
+        taken, more, whole, _ = open_ways[0]
+        times = left[taken]
+        many = many + times * more
+        left = plus(left, [times * number for number in whole])
+        open_ways = [way for way in ways if left[way[0]] > 0]
+    return (many, left)
 
 
 def _is_pair(unit, value):
@@ -112,9 +146,10 @@ def _best_pairs(unit):
 
 
 def _taken_in_turn(units, rule, stock, asks):
+    ways = rule_ways(units, rule)
     left = stock
     for count, ask in enumerate(asks):
-        behind = behind_order(units, rule, left, ask)
+        behind = behind_order(ways, left, ask)
         if behind is None:
             return (count, left)
         left = behind

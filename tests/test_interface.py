@@ -62,6 +62,28 @@ TOLD = {
     "more": (
         "with_deed(units, world, step, deed)", "least_more(units, world, step)", "most_more(units, world, step)",
         "beside(units, one, other)"),
+    "ruled": (
+        "rule_loss(units, world, rule, stock)", "is_rule_loss(units, world, rule, stock, value)",
+        "rule_table(units, world, rule, stock)", "is_rule_table(units, world, rule, stock, value)",
+        "rules_compared(units, world, one, other, stock)"),
+    "words": (
+        "need_words(units, value)", "words_row(units, words)", "words_clash(units, words)", "first_words(units, row)",
+        "free_words(units, words)", "words_behind(units, words, row)", "order_end(units, lengths)",
+        "words_in_order(units, lengths)", "two_readings(units, words)", "is_two_readings(units, words, value)"),
+    "wheel": (
+        "need_wheel(units, value)", "wheel_row(units, wheel)", "first_meeting(units, wheel)", "wheel_of(units, row)",
+        "free_turns(units, wheel)", "wheel_behind(units, wheel, row)", "is_wheel(units, row, value)",
+        "due_at(units, wheel, tick)", "next_free(units, wheel, tick)", "dues_between(units, wheel, begin, end)",
+        "free_between(units, wheel, begin, end)"),
+    "draws": (
+        "need_draw(units, value)", "draw_rows(units, draw)", "draw_shares(units, draw)", "all_throws(units, draw)",
+        "drawn_by(units, draw, throws)", "draw_of(units, rows)", "least_draw(units, shares)",
+        "redrawn(units, draw, shares)", "least_throws(units, draw, shares)",
+        "is_redrawn(units, draw, shares, value)"),
+    "joining": (
+        "need_joins(units, value)", "joins_of(units, row)", "is_joins(units, row, value)", "fewest_left(units, row)",
+        "latest_more(units, row)", "least_end(units, ready)", "joins_by(units, ready, end)",
+        "is_joins_by(units, ready, end, value)"),
 }
 
 

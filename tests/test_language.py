@@ -5,6 +5,8 @@ import builtins
 import os
 import unittest
 
+from stairyard import errors
+
 HERE = os.path.dirname(os.path.abspath(__file__))
 PACKAGE = os.path.join(os.path.dirname(HERE), "stairyard")
 
@@ -21,8 +23,9 @@ BARRED = set((
     "help id importlib license locals os quit super vars sys type print").split())
 NEVER = (
     ast.AsyncFunctionDef, ast.AsyncFor, ast.AsyncWith, ast.Await, ast.Global, ast.Import, ast.Div, ast.MatMult,
-    ast.Try, ast.GeneratorExp, ast.Yield, ast.YieldFrom, ast.AnnAssign)
+    ast.GeneratorExp, ast.Yield, ast.YieldFrom, ast.AnnAssign)
 CONSTANTS = ("None", "True", "False")
+OWN_ERRORS = set(name for name in vars(errors) if not name.startswith("_"))
 
 
 def sources():
@@ -132,6 +135,12 @@ class Language(unittest.TestCase):
                     self.assertNotIn("%", str(node.value))
                 if isinstance(node, ast.Compare) and any(isinstance(one, (ast.Is, ast.IsNot)) for one in node.ops):
                     self.assertTrue(all(repr(getattr(one, "value", 0)) in CONSTANTS for one in node.comparators))
+                if isinstance(node, ast.Try):
+                    # Errors of the package are caught around calls of its own functions, none of Python's.
+                    self.assertEqual((node.orelse, node.finalbody), ([], []))
+                    for handler in node.handlers:
+                        self.assertIn(handler.type.id, OWN_ERRORS)
+                        self.assertIsNone(handler.name)
                 if isinstance(node, ast.BinOp) and isinstance(node.op, ast.Pow):
                     self.assertIsInstance(node.right, ast.Constant)
                     self.assertLessEqual(node.right.value, 64)
