@@ -84,6 +84,30 @@ TOLD = {
         "need_joins(units, value)", "joins_of(units, row)", "is_joins(units, row, value)", "fewest_left(units, row)",
         "latest_more(units, row)", "least_end(units, ready)", "joins_by(units, ready, end)",
         "is_joins_by(units, ready, end, value)"),
+    "sides": (
+        "is_side(units, side, value)", "side_row(units, side, value)", "side_of(units, row, side)",
+        "side_turned(units, side, value, into)"),
+    "worths": (
+        "best_worth(units, stock, items)", "best_choice(units, stock, items)",
+        "is_best_choice(units, stock, items, value)", "more_worth(units, stock, items)"),
+    "payments": (
+        "can_pay(units, one, other, amount)", "payment(units, one, other, amount)",
+        "is_payment(units, one, other, amount, value)", "blocked_unit(units, one, other, amount)",
+        "first_unpaid(units, one, other)", "next_paid(units, one, other, amount)"),
+    "texts": (
+        "row_text(units, row)", "tree_text(units, tree)", "plan_text(units, plan)", "formula_text(units, formula)",
+        "world_text(units, world)", "read_row(units, text)", "read_tree(units, text)", "read_plan(units, text)",
+        "read_formula(units, text)", "read_world(units, text)"),
+}
+
+CLASSES = {
+    "house.House": (
+        "__init__(self, units, tree)", "tree(self)", "needs(self)", "spare(self, path)", "do(self, deed)",
+        "follow(self, deeds)", "trial(self, deeds)", "undo(self)", "log(self)", "copy(self)", "__len__(self)",
+        "__iter__(self)", "__eq__(self, other)"),
+    "sheet.Sheet": (
+        "__init__(self, text)", "all_true(self)", "named(self, name)", "__len__(self)", "__iter__(self)",
+        "__eq__(self, other)", "__str__(self)"),
 }
 
 
@@ -97,6 +121,20 @@ class Interface(unittest.TestCase):
                     self.assertTrue(inspect.isfunction(function))
                     self.assertEqual(function.__module__, "stairyard." + name)
                     self.assertEqual(function.__name__ + str(inspect.signature(function)), text)
+
+    def test_methods_are_defined_in_their_class(self):
+        for place, told in CLASSES.items():
+            name, _, word = place.partition(".")
+            made = getattr(importlib.import_module("stairyard." + name), word)
+            self.assertEqual(made.__module__, "stairyard." + name)
+            for text in told:
+                with self.subTest(method=text):
+                    method = vars(made)[text.partition("(")[0]]
+                    self.assertEqual(method.__name__ + str(inspect.signature(method)), text)
+
+    def test_sides(self):
+        told = ("words", "texts", "wheel", "draw", "joins", "yard", "plan", "world")
+        self.assertEqual(importlib.import_module("stairyard.sides").SIDES, told)
 
 
 if __name__ == "__main__":

@@ -16,7 +16,9 @@ BUILTINS = set((
 METHODS = set((
     "append clear copy count endswith extend find get index insert isalnum isalpha isdigit islower isspace isupper "
     "items join keys ljust lower lstrip partition pop remove replace reverse rfind rjust rpartition rsplit rstrip "
-    "setdefault split splitlines startswith strip update upper values zfill bit_length sort add discard").split())
+    "setdefault split splitlines startswith strip update upper values zfill bit_length isascii").split())
+OWN_METHODS = set((
+    "__init__ __eq__ __len__ __iter__ __str__ tree needs spare do follow trial undo log copy _go_on all_true named").split())
 BEGINNINGS = ("__", "_wall", "_pe_", "_dcw_", "_enum_", "_cm_", "_twin_re_", "_lay_", "_law_", "_stub_", "_sre")
 BARRED = set((
     "register mro elements open input law version_info with_traceback add_note compile dir eval exec exit gc globals "
@@ -83,9 +85,51 @@ class Language(unittest.TestCase):
             self.assertIsNotNone(ast.get_docstring(tree), name)
             bound = []
             for node in tree.body[1:]:
+                if isinstance(node, ast.Assign):
+                    (target,) = node.targets
+                    self.assertTrue(target.id.isupper(), name)
+                    self.plain_value(node.value, name)
+                    bound.append(target.id)
+                    continue
                 self.assertIsInstance(node, (ast.ImportFrom, ast.FunctionDef, ast.ClassDef), f"{name}:{node.lineno}")
                 bound += [one.name for one in node.names] if isinstance(node, ast.ImportFrom) else [node.name]
             self.assertEqual(len(bound), len(set(bound)), name)
+
+    def plain_value(self, node, name):
+        """Assert that a value at module level is plain: a dict of tuples at most."""
+        if isinstance(node, ast.Dict):
+            for part in (*node.keys, *node.values):
+                self.assertNotIsInstance(part, ast.Dict, name)
+                self.plain_value(part, name)
+        elif isinstance(node, ast.Tuple):
+            for part in node.elts:
+                self.assertNotIsInstance(part, ast.Dict, name)
+                self.plain_value(part, name)
+        else:
+            self.assertIsInstance(node, ast.Constant, name)
+
+    def test_classes(self):
+        for name, tree in self.trees.items():
+            imported = {one.name for node in imports_of(tree) for one in node.names}
+            for node in [node for node in tree.body if isinstance(node, ast.ClassDef) and name != "errors.py"]:
+                self.assertEqual((node.bases, node.decorator_list), ([], []))
+                self.assertIsNotNone(ast.get_docstring(node))
+                methods = node.body[1:]
+                attributes = set()
+                for method in methods:
+                    self.assertIsInstance(method, ast.FunctionDef)
+                    self.assertIn(method.name, OWN_METHODS)
+                    self.assertEqual(method.args.args[0].arg, "self")
+                    attributes |= {one.attr for one in ast.walk(method) if isinstance(one, ast.Attribute)
+                                   and isinstance(one.ctx, ast.Store)}
+                names = [method.name for method in methods]
+                self.assertEqual(len(names), len(set(names)))
+                self.assertEqual(attributes & set(names), set())
+                self.assertFalse(attributes & imported)
+                returned = [one for method in methods if method.name in ("__len__", "__iter__") for one in method.body]
+                for one in returned:
+                    self.assertIn(one.value.func.id, ("len", "iter"))
+                self.assertNotIn("__hash__", names)
 
     def test_imports_name_the_defining_file_and_make_no_ring(self):
         behind = {}
@@ -118,7 +162,7 @@ class Language(unittest.TestCase):
                         with self.subTest(name=name, bound=bound):
                             self.assertNotIn(bound, dir(builtins))
                             self.assertNotIn(bound, BARRED)
-                            self.assertTrue(bound == "__init__" or not bound.startswith(BEGINNINGS))
+                            self.assertTrue(bound in OWN_METHODS or not bound.startswith(BEGINNINGS))
                     self.assertEqual(set(bound_in(node)) & (imported | classes), set(), f"{name}:{node.lineno}")
 
     def test_builtins_methods_and_signs(self):
@@ -129,7 +173,8 @@ class Language(unittest.TestCase):
                     self.assertIn(node.id, BUILTINS)
                 if isinstance(node, ast.Call) and isinstance(node.func, ast.Attribute):
                     init = node.func.attr == "__init__" and node.func.value.id == "YardError"
-                    self.assertTrue(init or node.func.attr in METHODS)
+                    own = node.func.attr in OWN_METHODS and node.func.attr[:2] != "__"
+                    self.assertTrue(init or own or node.func.attr in METHODS)
                 if isinstance(node, ast.Constant):
                     self.assertNotIsInstance(node.value, (float, complex, bytes))
                     self.assertNotIn("%", str(node.value))
@@ -139,7 +184,8 @@ class Language(unittest.TestCase):
                     # Errors of the package are caught around calls of its own functions, none of Python's.
                     self.assertEqual((node.orelse, node.finalbody), ([], []))
                     for handler in node.handlers:
-                        self.assertIn(handler.type.id, OWN_ERRORS)
+                        caught = handler.type.elts if isinstance(handler.type, ast.Tuple) else [handler.type]
+                        self.assertTrue(OWN_ERRORS.issuperset(one.id for one in caught))
                         self.assertIsNone(handler.name)
                 if isinstance(node, ast.BinOp) and isinstance(node.op, ast.Pow):
                     self.assertIsInstance(node.right, ast.Constant)
