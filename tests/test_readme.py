@@ -25,7 +25,7 @@ class Readme(unittest.TestCase):
                 with self.subTest(line=line):
                     self.assertEqual(eval(code, names), eval(remark.partition(": ")[0]))
                     told += 1
-        self.assertEqual(told, 15)
+        self.assertEqual(told, 22)
 
 
 if __name__ == "__main__":
