@@ -8,7 +8,7 @@ from stairyard.errors import BadParameter, BadWheel, NoRow, TooGreat, Unlike
 from stairyard.plain import is_tuple_of, is_unit, is_whole, need_fits
 from stairyard.rows import need_row
 from stairyard.units import need_units
-from stairyard.words import first_clash, row_counted, words_added, words_left
+from stairyard.words import row_counted, words_added, words_left
 
 
 def need_wheel(units, value):
@@ -132,8 +132,6 @@ def _is_turn(units, value):
 
 def _meeting(units, wheel):
     """Return the least tick at which two turns are due, and the first two of them; None if the turns are apart."""
-    if first_clash(words_of_turns(units, wheel)) is None:
-        return None
     # Two turns that meet do so for the first time when the one with the longer period begins.
     for tick in sorted([start for _, start in wheel]):
         due = _dues(units, wheel, tick)

@@ -330,6 +330,14 @@ class TwoReadings(YardCase):
             with self.subTest(words=words):
                 self.check_words((3, 3), words, 6)
 
+    def test_three_readings(self):
+        units, words = (2, 2, 2), ((0, 1, 0), (0, 1), (1, 0), (0,))
+        self.assertEqual(readings(words, (0, 1, 0)), [(0,), (1, 3), (3, 2)])
+        self.assertEqual(two_readings(units, words), ((0, 1, 0), (0,), (1, 3)))
+        self.assertEqual(two_readings(units, words[::-1]), ((0, 1, 0), (0, 1), (2, 0)))
+        for one, other in itertools.permutations(readings(words, (0, 1, 0)), 2):
+            self.assertIs(is_two_readings(units, words, ((0, 1, 0), one, other)), True)
+
     def test_long_texts(self):
         # The overhanging letters go through many states, until at last both readings end at once.
         words = ((0, 0, 1), (1, 0, 0), (0, 1, 0), (1,), (0, 0, 0))
