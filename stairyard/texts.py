@@ -9,33 +9,33 @@ from stairyard.worlds import need_world
 from stairyard.yards import need_tree
 
 # What comes in the place of a form when its first word, told behind it, is read: forms, words and what is done.
-# ("open", ..) begins a value with some things, ("close", N) ends it: all but the first N things stand in a tuple.
+# ("begin", ..) begins a value with some things, ("made", N) ends it: all but the first N things stand in a tuple.
 BEHIND = {
-    "row (": (("open",), "numbers", ")", ("close",)),
+    "row (": (("begin",), "numbers", ")", ("made",)),
     ") )": (),
-    "tree {": (("open",), "row", "row", "trees"),
-    "trees {": (("open",), "row", "row", "trees", "trees"),
-    "trees }": (("close", 2),),
-    "plan end": (("open", "end"), ("close",)),
-    "plan ask": (("open", "ask"), "row", "plan", ("close",)),
-    "plan bring": (("open", "bring"), "row", "plan", ("close",)),
-    "plan either": (("open", "either"), "plan", "plan", ("close",)),
-    "plan ours": (("open", "ours"), "plan", "plan", ("close",)),
-    "formula (": (("open", "row"), ("open",), "numbers", ")", ("close",), ("close",)),
-    "formula together": (("open", "together"), "[", "formulas"),
-    "formula any": (("open", "any"), "[", "formulas"),
-    "formula one": (("open", "one"), "[", "formulas"),
+    "tree {": (("begin",), "row", "row", "trees"),
+    "trees {": (("begin",), "row", "row", "trees", "trees"),
+    "trees }": (("made", 2),),
+    "plan end": (("begin", "end"), ("made",)),
+    "plan ask": (("begin", "ask"), "row", "plan", ("made",)),
+    "plan bring": (("begin", "bring"), "row", "plan", ("made",)),
+    "plan either": (("begin", "either"), "plan", "plan", ("made",)),
+    "plan ours": (("begin", "ours"), "plan", "plan", ("made",)),
+    "formula (": (("begin", "row"), ("begin",), "numbers", ")", ("made",), ("made",)),
+    "formula together": (("begin", "together"), "[", "formulas"),
+    "formula any": (("begin", "any"), "[", "formulas"),
+    "formula one": (("begin", "one"), "[", "formulas"),
     "[ [": (),
-    "formulas (": (("open", "row"), ("open",), "numbers", ")", ("close",), ("close",), "formulas"),
-    "formulas together": (("open", "together"), "[", "formulas", "formulas"),
-    "formulas any": (("open", "any"), "[", "formulas", "formulas"),
-    "formulas one": (("open", "one"), "[", "formulas", "formulas"),
-    "formulas ]": (("close", 1),),
-    "world places": (("open",), "number", "steps"),
-    "steps ;": (("open",), "number", "deed", "number", ("close",), "steps"),
-    "deed ask": (("open", "ask"), "row", ("close",)),
-    "deed bring": (("open", "bring"), "row", ("close",)),
-    "deed pass": (("open", "pass"), ("close",)),
+    "formulas (": (("begin", "row"), ("begin",), "numbers", ")", ("made",), ("made",), "formulas"),
+    "formulas together": (("begin", "together"), "[", "formulas", "formulas"),
+    "formulas any": (("begin", "any"), "[", "formulas", "formulas"),
+    "formulas one": (("begin", "one"), "[", "formulas", "formulas"),
+    "formulas ]": (("made", 1),),
+    "world places": (("begin",), "number", "steps"),
+    "steps ;": (("begin",), "number", "deed", "number", ("made",), "steps"),
+    "deed ask": (("begin", "ask"), "row", ("made",)),
+    "deed bring": (("begin", "bring"), "row", ("made",)),
+    "deed pass": (("begin", "pass"), ("made",)),
 }
 
 
@@ -134,7 +134,7 @@ def value_told(units, line, words, at, form):
             ahead.extend(["number"] * (len(units) + 1))
         elif part == "steps" and word_at(words, at) is None:
             # The steps of a world end with the line: nothing else shows that there are no more.
-            ahead.append(("close", 1))
+            ahead.append(("made", 1))
         else:
             ahead.extend(_behind_word(told, line, part, word_at(words, at), at)[::-1])
             at = at + 1
@@ -162,7 +162,7 @@ def _behind_word(told, line, part, word, at):
 
 def _do_part(told, part):
     """Begin or end a value among those that are told by now, each within the one ahead of it."""
-    if part[0] == "open":
+    if part[0] == "begin":
         told.append(list(part[1:]))
     else:
         value = tuple(told.pop())
