@@ -108,7 +108,8 @@ def walks_to(world, start):
     fresh = [start]
     while fresh:
         found = []
-        for place in fresh:
+        # Walked is a copy: behind the loop `fresh` names the list that is filled in it.
+        for place in list(fresh):
             for index, (source, _, to) in enumerate(world[1]):
                 if source == place and to not in walks:
                     walks[to] = walks[place] + (index,)

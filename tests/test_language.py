@@ -27,6 +27,9 @@ NEVER = (
     ast.AsyncFunctionDef, ast.AsyncFor, ast.AsyncWith, ast.Await, ast.Global, ast.Import, ast.Div, ast.MatMult,
     ast.GeneratorExp, ast.Yield, ast.YieldFrom, ast.AnnAssign)
 CONSTANTS = ("None", "True", "False")
+MODIFYING = set("append clear extend insert pop remove reverse setdefault update".split())
+VIEWS = ("enumerate", "zip", "reversed")
+LOOPS = (ast.For, ast.ListComp, ast.SetComp, ast.DictComp)
 OWN_ERRORS = set(name for name in vars(errors) if not name.startswith("_"))
 
 
@@ -49,6 +52,73 @@ def bound_in(function):
     names = [one.arg for one in arguments.posonlyargs + arguments.args + arguments.kwonlyargs]
     names += [node.id for node in ast.walk(function) if isinstance(node, ast.Name) and isinstance(node.ctx, ast.Store)]
     return names
+
+
+def told_by(node):
+    """The names, attributes and items that a value may be, as texts; nothing for what is made anew, as slices are."""
+    if isinstance(node, ast.IfExp):
+        return told_by(node.body) | told_by(node.orelse)
+    if isinstance(node, ast.BoolOp):
+        return set().union(*map(told_by, node.values))
+    if isinstance(node, ast.Subscript) and isinstance(node.slice, ast.Slice):
+        return set()
+    return {ast.unparse(node)} if isinstance(node, (ast.Name, ast.Attribute, ast.Subscript)) else set()
+
+
+def walked_by(node):
+    """What a loop over this goes over, through `enumerate` and the like and through the views of a dict."""
+    if not isinstance(node, ast.Call):
+        return told_by(node)
+    if isinstance(node.func, ast.Attribute) and node.func.attr in ("items", "keys", "values"):
+        return told_by(node.func.value)
+    if isinstance(node.func, ast.Name) and node.func.id in VIEWS:
+        return set().union(*map(walked_by, node.args))
+    return set()
+
+
+def given_names(function):
+    """The pairs of a target and of a value that is assigned to it somewhere in a function."""
+    for node in ast.walk(function):
+        for target in node.targets if isinstance(node, ast.Assign) else []:
+            if isinstance(target, ast.Tuple) and isinstance(node.value, ast.Tuple):
+                yield from zip(target.elts, node.value.elts)
+            else:
+                yield target, node.value
+
+
+def known_as(texts, function):
+    """These texts and all others by which the same values may be known in a function."""
+    pairs = [told_by(target) | told_by(value) for target, value in given_names(function)]
+    found = set(texts)
+    while True:
+        more = found.union(*(pair for pair in pairs if pair & found))
+        if more == found:
+            return found
+        found = more
+
+
+def changed_in(nodes):
+    """What is changed in these nodes, as texts."""
+    found = set()
+    for node in (inner for outer in nodes for inner in ast.walk(outer)):
+        if isinstance(node, ast.Call) and isinstance(node.func, ast.Attribute) and node.func.attr in MODIFYING:
+            found |= told_by(node.func.value)
+        if isinstance(node, ast.AugAssign):
+            found |= told_by(node.target)
+        if isinstance(node, ast.Subscript) and not isinstance(node.ctx, ast.Load):
+            found |= told_by(node.value)
+    return found
+
+
+def changed_while_walked(function):
+    """The pairs of a line and of what a loop at this line goes over and changes, by whichever of its names."""
+    found = []
+    for loop in [node for node in ast.walk(function) if isinstance(node, LOOPS)]:
+        heads = [loop.iter] if isinstance(loop, ast.For) else [part.iter for part in loop.generators]
+        changed = changed_in(loop.body if isinstance(loop, ast.For) else [loop])
+        for text in known_as(set().union(*map(walked_by, heads)), function) & changed:
+            found.append((loop.lineno, text))
+    return found
 
 
 class Language(unittest.TestCase):
@@ -164,6 +234,26 @@ class Language(unittest.TestCase):
                             self.assertNotIn(bound, BARRED)
                             self.assertTrue(bound in OWN_METHODS or not bound.startswith(BEGINNINGS))
                     self.assertEqual(set(bound_in(node)) & (imported | classes), set(), f"{name}:{node.lineno}")
+
+    def test_loops_change_nothing_that_they_walk(self):
+        for name, tree in self.trees.items():
+            for node in ast.walk(tree):
+                if isinstance(node, ast.FunctionDef):
+                    self.assertEqual(changed_while_walked(node), [], f"{name}: {node.name}")
+
+    def test_loops_that_change_what_they_walk_are_seen(self):
+        for rows in ("for x in xs:\n  xs.append(x)", "for at, x in enumerate(xs):\n  xs[at] = 0",
+                     "for x in box.rows:\n  del box.rows[0]", "for x in xs[0] or ys:\n  xs[0].pop()",
+                     "for x in xs:\n  ys.append(x)\nxs = ys", "ys = xs if k else zs\nfor x in ys:\n  xs += [x]",
+                     "xs, ys = ys, []\nfor x in xs:\n  ys.extend(x)", "for k, v in xs.items():\n  xs[v] = k",
+                     "zs = xs\nys = zs\nfor x in zip(ys, ys):\n  xs.clear()", "xs = [ys.pop() for x in ys]"):
+            with self.subTest(rows=rows):
+                self.assertNotEqual(changed_while_walked(ast.parse(rows)), [])
+        for rows in ("for x in list(xs):\n  xs.append(x)", "for x in xs:\n  ys.append(x)", "for x in xs:\n  x[0] = 1",
+                     "for x in xs[1:]:\n  xs.append(x)", "for x in list(xs):\n  ys.append(x)\nxs = ys",
+                     "for x in xs:\n  ys.append(x)\nxs = list(ys)", "for x in xs:\n  pass\nxs.append(1)"):
+            with self.subTest(rows=rows):
+                self.assertEqual(changed_while_walked(ast.parse(rows)), [])
 
     def test_builtins_methods_and_signs(self):
         for place, node in self.nodes():

@@ -6,7 +6,7 @@ import unittest
 
 from stairyard.errors import BadRow, BadSteps, BadWorld, NoRow, TooGreat
 from stairyard.lasting import needs_within
-from stairyard.worlds import is_table, left_behind, need_world, outlives, world_needs
+from stairyard.worlds import is_table, left_behind, need_world, outlives, walks_to, world_needs
 from tests.runs import (
     PASS, all_left, has_need, lasting_rows, needs_by_walks, serves_first, steps_from, walks_from, worlds_for)
 from tests.tools import (
@@ -264,6 +264,25 @@ class LeftBehind(YardCase):
     def test_great_numbers(self):
         world = circle_of([("bring", (MOST, MOST))])
         self.assertEqual(left_behind((10,), world, (MOST, 0), (0,) * 60), (0, (61 * MOST, 60 * MOST)))
+
+
+class WalksTo(YardCase):
+    def test_by_all_walks(self):
+        for world in worlds_for((2,), 120, 80, 3, 6, 12):
+            for start in range(world[0]):
+                least = {}
+                for walk, to in walks_from(world, start, world[0] - 1):
+                    key = (len(walk), walk)
+                    least[to] = min(key, least.get(to, key))
+                told = [(to, walk) for (_, walk), to in sorted((key, to) for to, key in least.items())]
+                self.assertEqual(list(walks_to(world, start).items()), told)
+
+    def test_line_circle_and_no_steps(self):
+        line, circle = line_world(8, [PASS] * 7), circle_of([PASS] * 8)
+        for start in range(8):
+            self.assertEqual(walks_to(line, start), {to: tuple(range(start, to)) for to in range(start, 8)})
+            self.assertEqual(len(walks_to(circle, start)[(start + 7) % 8]), 7)
+            self.assertEqual(walks_to((8, ()), start), {start: ()})
 
 
 class FirstSteps(YardCase):
